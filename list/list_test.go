@@ -1,0 +1,135 @@
+package list
+
+import (
+	"go/ast"
+	"go/parser"
+	"go/token"
+	"math"
+	"strconv"
+	"strings"
+	"sync"
+	"testing"
+
+	"quadrille/api"
+)
+
+// document is the catalogue as the document has it, a class a line, from ClassScalar on.
+const document = `ABS 1, SIGN 1, MOD 2, QUOTIENT 2, POWER 2, GCD 2, LCM 2, FACT 1, ISEVEN 1, ISODD 1, BITAND 2, BITOR 2, BITXOR 2, NOT 1, CLAMP 3, LEN 1, LEFT 1..2, RIGHT 1..2, MID 3, UPPER 1, LOWER 1, TRIM 1, REVERSE 1, FIND 2..3, SUBSTITUTE 3, REPLACE 4, REPT 2, EXACT 2, CODE 1, CHAR 1, VALUE 1, TEXT 1, N 1, T 1, NA 0
+ISBLANK 1, ISNUMBER 1, ISTEXT 1, ISLOGICAL 1, ISERROR 1, ISNA 1
+IF 2..3, IFERROR 2, IFNA 2, CHOOSE 2.., SWITCH 3..
+ROW 0..1, COLUMN 0..1, ROWS 1, COLUMNS 1
+INDIRECT 1, OFFSET 3..5, INDEX 2..3
+SUM 1.., PRODUCT 1.., COUNT 1.., COUNTA 1.., COUNTBLANK 1.., MIN 1.., MAX 1.., AVERAGE 1.., MEDIAN 1.., LARGE 2, SMALL 2, AND 1.., OR 1.., XOR 1.., CONCAT 1.., JOIN 2.., MATCH 2, VLOOKUP 3, HLOOKUP 3, SUMIF 2..3, COUNTIF 2, SUMPRODUCT 2, FIRST 1..`
+
+// count reads how many arguments, as the document writes it.
+func count(t *testing.T, s string) (least, most int) {
+	t.Helper()
+	from, until, two := strings.Cut(s, "..")
+	least, err := strconv.Atoi(from)
+	switch {
+	case !two:
+		most = least
+	case until == "":
+		most = -1
+	default:
+		var second error
+		most, second = strconv.Atoi(until)
+		if second != nil {
+			err = second
+		}
+	}
+	if err != nil {
+		t.Fatalf("the document's catalogue: %q: %v", s, err)
+	}
+	return least, most
+}
+
+// documentRows gives the document's rows, in the order of the functions' numbers.
+func documentRows(t *testing.T) []api.Function {
+	t.Helper()
+	var rows []api.Function
+	for i, line := range strings.Split(document, "\n") {
+		for _, one := range strings.Split(line, ", ") {
+			name, arguments, _ := strings.Cut(one, " ")
+			least, most := count(t, arguments)
+			rows = append(rows, api.Function{Name: name, Class: api.ClassScalar + i, Min: least, Max: most})
+		}
+	}
+	if len(rows) != api.Functions {
+		t.Fatalf("the document's catalogue has %d functions", len(rows))
+	}
+	return rows
+}
+
+func checkInfo(t *testing.T, f int, want api.Function, wantE api.Errno) {
+	t.Helper()
+	if row, e := Info(f); row != want || e != wantE {
+		t.Errorf("P13.2: Info(%d): %+v, %d; want %+v, %d", f, row, e, want, wantE)
+	}
+}
+
+func TestInfoOfTheDocumentsExamples(t *testing.T) {
+	checkInfo(t, 42, api.Function{Name: "IF", Class: api.ClassLazy, Min: 2, Max: 3}, api.OK)
+	checkInfo(t, 52, api.Function{Name: "OFFSET", Class: api.ClassArea, Min: 3, Max: 5}, api.OK)
+	checkInfo(t, 35, api.Function{Name: "NA", Class: api.ClassScalar}, api.OK)
+	checkInfo(t, 69, api.Function{Name: "JOIN", Class: api.ClassWalking, Min: 2, Max: -1}, api.OK)
+}
+
+func TestInfoOfAllFunctions(t *testing.T) {
+	for i, want := range documentRows(t) {
+		checkInfo(t, i+1, want, api.OK)
+	}
+}
+
+func TestInfoOfNoFunction(t *testing.T) {
+	for _, f := range []int{0, -1, 77, 78, -76, 1000, 1 << 32, 1<<32 + 1, math.MaxInt, math.MinInt, math.MinInt + 1} {
+		checkInfo(t, f, api.Function{}, api.ErrArg)
+	}
+}
+
+// TestNamesOfTheNumbers holds the rows against the names that package api has for the numbers: FSum is SUM's.
+func TestNamesOfTheNumbers(t *testing.T) {
+	file, err := parser.ParseFile(token.NewFileSet(), "../api/api.go", nil, 0)
+	if err != nil {
+		t.Fatal(err)
+	}
+	numbers := map[string]int{}
+	ast.Inspect(file, func(n ast.Node) bool {
+		spec, ok := n.(*ast.ValueSpec)
+		if !ok || len(spec.Names) != 1 || len(spec.Values) != 1 {
+			return true
+		}
+		if value, ok := spec.Values[0].(*ast.BasicLit); ok && value.Kind == token.INT {
+			if number, err := strconv.Atoi(value.Value); err == nil {
+				numbers[spec.Names[0].Name] = number
+			}
+		}
+		return true
+	})
+	for f := 1; f <= api.Functions; f++ {
+		row, _ := Info(f)
+		constant := "F" + row.Name[:1] + strings.ToLower(row.Name[1:])
+		if number, some := numbers[constant]; !some || number != f {
+			t.Errorf("P13.2: Info(%d) is %s, and api.%s is %d", f, row.Name, constant, number)
+		}
+	}
+}
+
+func TestInfoHangsOnItsArgumentAlone(t *testing.T) {
+	rows := documentRows(t)
+	var all sync.WaitGroup
+	for worker := range 8 {
+		all.Go(func() {
+			for i := range 20 * api.Functions {
+				f := (i*(2*worker+1))%api.Functions + 1
+				if row, e := Info(f); row != rows[f-1] || e != api.OK {
+					t.Errorf("P13.2: Info(%d), among others: %+v, %d", f, row, e)
+				}
+				if row, e := Info(-f); row != (api.Function{}) || e != api.ErrArg {
+					t.Errorf("P13.2: Info(%d), among others: %+v, %d", -f, row, e)
+				}
+			}
+		})
+	}
+	all.Wait()
+}
