@@ -115,6 +115,98 @@ func TestNamesOfTheNumbers(t *testing.T) {
 	}
 }
 
+func checkFind(t *testing.T, name string, want int, wantSome bool) {
+	t.Helper()
+	if f, some := Find(name); f != want || some != wantSome {
+		t.Errorf("P13.1: Find(%.80q): %d, %v; want %d, %v", name, f, some, want, wantSome)
+	}
+}
+
+func TestFindOfTheDocumentsExamples(t *testing.T) {
+	checkFind(t, "ABS", 1, true)
+	checkFind(t, "FIRST", 76, true)
+	checkFind(t, "SUM", 54, true)
+	for _, name := range []string{"sum", "SUM ", ""} {
+		checkFind(t, name, 0, false)
+	}
+}
+
+// TestFindOfAllFunctions asks for each function's name, and for all texts that are another one by one byte.
+func TestFindOfAllFunctions(t *testing.T) {
+	numbers := map[string]int{}
+	for i, row := range documentRows(t) {
+		if other, some := numbers[row.Name]; some {
+			t.Fatalf("the document's catalogue: %s has two numbers, %d and %d", row.Name, other, i+1)
+		}
+		numbers[row.Name] = i + 1
+	}
+	check := func(name string) {
+		t.Helper()
+		want, some := numbers[name]
+		checkFind(t, name, want, some)
+	}
+	for name, f := range numbers {
+		checkFind(t, name, f, true)
+		if row, _ := Info(f); row.Name != name {
+			t.Errorf("P13.3: Find(%s) is %d, which is %s", name, f, row.Name)
+		}
+		checkFind(t, strings.Clone(name), f, true)
+		checkFind(t, strings.ToLower(name), 0, false)
+		for at := range len(name) + 1 {
+			for c := range 256 {
+				one := string([]byte{byte(c)})
+				check(name[:at] + one + name[at:])
+				if at < len(name) {
+					check(name[:at] + one + name[at+1:])
+				}
+			}
+			check(name[:at])
+			check(name[at:])
+			if at < len(name) {
+				check(name[:at] + name[at+1:])
+			}
+		}
+	}
+}
+
+func TestFindOfNoFunction(t *testing.T) {
+	for _, name := range []string{"TRUE", "FALSE", "NOPE", "A1", "FSum", "Sum", "=SUM", "SUM(", "SUM()", "SUM\x00", "\xff", "é", "\uff33\uff35\uff2d", "SU\u039c", "1", "54", "SUMSUM", "ABS SIGN", "ABS,SIGN", strings.Repeat("SUM", 100000), strings.Repeat("x", 1<<24)} {
+		checkFind(t, name, 0, false)
+	}
+	// No other short text of capitals is a name.
+	all := map[string]int{}
+	for i, row := range documentRows(t) {
+		all[row.Name] = i + 1
+	}
+	for a := 'A'; a <= 'Z'; a++ {
+		for b := 'A'; b <= 'Z'; b++ {
+			for _, name := range []string{string(a), string([]rune{a, b}), string([]rune{a, b, 'D'}), string([]rune{a, b, 'S'}), string([]rune{'A', a, b})} {
+				want, some := all[name]
+				checkFind(t, name, want, some)
+			}
+		}
+	}
+}
+
+func TestFindHangsOnItsArgumentAlone(t *testing.T) {
+	rows := documentRows(t)
+	var all sync.WaitGroup
+	for worker := range 8 {
+		all.Go(func() {
+			for i := range 5 * api.Functions {
+				f := (i*(2*worker+1))%api.Functions + 1
+				if got, some := Find(rows[f-1].Name); got != f || !some {
+					t.Errorf("P13.4: Find(%s), among others: %d, %v", rows[f-1].Name, got, some)
+				}
+				if got, some := Find(strings.ToLower(rows[f-1].Name)); got != 0 || some {
+					t.Errorf("P13.4: Find(%s), among others: %d, %v", strings.ToLower(rows[f-1].Name), got, some)
+				}
+			}
+		})
+	}
+	all.Wait()
+}
+
 func TestInfoHangsOnItsArgumentAlone(t *testing.T) {
 	rows := documentRows(t)
 	var all sync.WaitGroup
