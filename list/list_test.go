@@ -5,6 +5,7 @@ import (
 	"go/parser"
 	"go/token"
 	"math"
+	"slices"
 	"strconv"
 	"strings"
 	"sync"
@@ -73,6 +74,9 @@ func TestInfoOfTheDocumentsExamples(t *testing.T) {
 	checkInfo(t, 52, api.Function{Name: "OFFSET", Class: api.ClassArea, Min: 3, Max: 5}, api.OK)
 	checkInfo(t, 35, api.Function{Name: "NA", Class: api.ClassScalar}, api.OK)
 	checkInfo(t, 69, api.Function{Name: "JOIN", Class: api.ClassWalking, Min: 2, Max: -1}, api.OK)
+	for _, f := range []int{0, 77, math.MinInt64} {
+		checkInfo(t, f, api.Function{}, api.ErrArg)
+	}
 }
 
 func TestInfoOfAllFunctions(t *testing.T) {
@@ -82,8 +86,26 @@ func TestInfoOfAllFunctions(t *testing.T) {
 }
 
 func TestInfoOfNoFunction(t *testing.T) {
-	for _, f := range []int{0, -1, 77, 78, -76, 1000, 1 << 32, 1<<32 + 1, math.MaxInt, math.MinInt, math.MinInt + 1} {
+	for _, f := range []int{0, -1, -2, 77, 78, -76, 1000, 1 << 32, 1<<32 + 1, 1<<32 + 76, math.MaxInt, math.MaxInt - 1, math.MinInt, math.MinInt + 1, math.MinInt + 76} {
 		checkInfo(t, f, api.Function{}, api.ErrArg)
+	}
+}
+
+// TestInfoOfTheEdges asks for those that take none, and those that take any number of arguments: all of them, and no others.
+func TestInfoOfTheEdges(t *testing.T) {
+	none := []int{api.FNa, api.FRow, api.FColumn}
+	endless := []int{api.FChoose, api.FSwitch, api.FSum, api.FProduct, api.FCount, api.FCounta, api.FCountblank, api.FMin, api.FMax, api.FAverage, api.FMedian, api.FAnd, api.FOr, api.FXor, api.FConcat, api.FJoin, api.FFirst}
+	for f := 1; f <= api.Functions; f++ {
+		row, _ := Info(f)
+		if (row.Min == 0) != slices.Contains(none, f) {
+			t.Errorf("P13.2: %s takes %d arguments or more", row.Name, row.Min)
+		}
+		if (row.Max == -1) != slices.Contains(endless, f) {
+			t.Errorf("P13.2: %s takes %d arguments at the most", row.Name, row.Max)
+		}
+		if row.Max != -1 && row.Max < row.Min || row.Min < 0 || row.Max < -1 {
+			t.Errorf("P13.2: %s takes %d to %d arguments", row.Name, row.Min, row.Max)
+		}
 	}
 }
 
@@ -151,7 +173,9 @@ func TestFindOfAllFunctions(t *testing.T) {
 			t.Errorf("P13.3: Find(%s) is %d, which is %s", name, f, row.Name)
 		}
 		checkFind(t, strings.Clone(name), f, true)
-		checkFind(t, strings.ToLower(name), 0, false)
+		for _, wrong := range []string{strings.ToLower(name), strings.ToLower(name[:1]) + name[1:], " " + name, name + " ", "\t" + name, name + "\n", name + name} {
+			checkFind(t, wrong, 0, false)
+		}
 		for at := range len(name) + 1 {
 			for c := range 256 {
 				one := string([]byte{byte(c)})
@@ -165,6 +189,21 @@ func TestFindOfAllFunctions(t *testing.T) {
 			if at < len(name) {
 				check(name[:at] + name[at+1:])
 			}
+		}
+	}
+}
+
+// TestNoTwoFunctionsHaveOneName asks the catalogue itself, whatever its names are.
+func TestNoTwoFunctionsHaveOneName(t *testing.T) {
+	owners := map[string]int{}
+	for f := 1; f <= api.Functions; f++ {
+		row, _ := Info(f)
+		if other, some := owners[row.Name]; some {
+			t.Errorf("P13.3: %d and %d have the name %s", other, f, row.Name)
+		}
+		owners[row.Name] = f
+		if found, some := Find(row.Name); found != f || !some {
+			t.Errorf("P13.3: Find(%s), the name of %d: %d, %v", row.Name, f, found, some)
 		}
 	}
 }
@@ -215,10 +254,10 @@ func TestInfoHangsOnItsArgumentAlone(t *testing.T) {
 			for i := range 20 * api.Functions {
 				f := (i*(2*worker+1))%api.Functions + 1
 				if row, e := Info(f); row != rows[f-1] || e != api.OK {
-					t.Errorf("P13.2: Info(%d), among others: %+v, %d", f, row, e)
+					t.Errorf("P13.4: Info(%d), among others: %+v, %d", f, row, e)
 				}
 				if row, e := Info(-f); row != (api.Function{}) || e != api.ErrArg {
-					t.Errorf("P13.2: Info(%d), among others: %+v, %d", -f, row, e)
+					t.Errorf("P13.4: Info(%d), among others: %+v, %d", -f, row, e)
 				}
 			}
 		})
