@@ -129,7 +129,7 @@ func modelFlows(p api.Code, at int, stack []rune) ([]flow, bool) {
 		return []flow{{next, rest}, {in.A, rest}, {in.B, with(rest, 'E')}}, fits
 	case api.IOk:
 		rest, fits := popped(stack, 'V')
-		return []flow{{next, rest}, {in.A, stack}}, fits
+		return []flow{{next, rest}, {in.A, with(rest, 'V')}}, fits
 	case api.IChoose:
 		rest, fits := popped(stack, 'V')
 		out := []flow{{in.A, with(rest, 'E')}}

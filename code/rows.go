@@ -52,7 +52,7 @@ type exit struct {
 	to int
 }
 
-// rows gives what the instructions use, by their Ops.
+// rows gives what the instructions use, by their Ops. IOk jumps with what it did not look for, so of an error no more is known there than that it is a value; what IMatch's jump keeps is what it was.
 func rows() map[int]row {
 	leaves := func(item string) way { return way{add: item} }
 	return map[int]row{
@@ -64,7 +64,7 @@ func rows() map[int]row {
 		api.ICall:     {name: "call", uses: 2, fits: hasFunction(api.ClassScalar, api.ClassAsking), more: aValue, times: numberB, next: leaves(aValue)},
 		api.IErr:      {name: "err", uses: 2, fits: hasCount, takes: anySort, more: anySort, times: numberB, jumps: []way{leaves(anError)}, next: way{keep: all}},
 		api.IIf:       {name: "if", uses: 2, takes: aValue, jumps: []way{{}, leaves(anError)}},
-		api.IOk:       {name: "ok", uses: 2, fits: hasZeroOrNA, takes: aValue, jumps: []way{{keep: all}}},
+		api.IOk:       {name: "ok", uses: 2, fits: hasZeroOrNA, takes: aValue, jumps: []way{leaves(aValue)}},
 		api.IChoose:   {name: "choose", uses: 1, takes: aValue, jumps: []way{leaves(anError)}, list: true, stops: true},
 		api.IMatch:    {name: "match", uses: 1, takes: aValue + aValue, jumps: []way{{keep: 1}}},
 		api.IDrop:     {name: "drop", takes: aValue},

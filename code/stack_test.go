@@ -213,9 +213,36 @@ func TestOkLeads(t *testing.T) {
 		wrongBoth(t, "ok, and an area of one", bare(val, do(api.IOk, 4, b), val, minus, one), api.ErrCode)
 		wrongBoth(t, "ok, and nothing in its stead", bare(val, do(api.IOk, 3, b), jump(3)), api.ErrCode)
 		good(t, "ok, and an error in its stead", of(wrongs(), val, do(api.IOk, 3, b), first))
-		// An error that is still there is one still.
-		good(t, "ok of an error, as an area", of(wrongs(), first, do(api.IOk, 3, b), box, one))
 		good(t, "below all stays", bare(box, val, do(api.IOk, 4, b), val, do(api.IIndex, 1), one))
+		good(t, "below an error is one still", of(wrongs(), first, first, do(api.IOk, 4, b), val, do(api.IIndex, 1), one))
+	}
+}
+
+// TestOkLeavesAValue shows what is known of the item at the jump's place: a V, also of what was an error.
+func TestOkLeavesAValue(t *testing.T) {
+	for _, b := range []int{0, 6} {
+		for _, known := range []string{"V", "E"} {
+			code := func(all ...api.Ins) api.Code { return of(wrongs(), laid(known, all...)...) }
+			// 0 item, 1 ok to 4, 2 value, 3 jump to the end, 4 the item is taken.
+			good(t, "ok of "+known+", as a value", code(do(api.IOk, 4, b), val, jump(5), minus))
+			good(t, "ok of "+known+", as any", code(do(api.IOk, 4, b), val, jump(5), sum(1)))
+			wrongBoth(t, "ok of "+known+", as an area", code(do(api.IOk, 4, b), val, jump(5), one), api.ErrCode)
+			// 0 item, 1 ok to 3, 2 another item, 3 what has come by both ways is taken.
+			for _, take := range []api.Ins{minus, one, sum(1)} {
+				wrongBoth(t, "ok of "+known+" and an area", code(do(api.IOk, 3, b), box, take), api.ErrCode)
+			}
+			for _, other := range []api.Ins{val, first} {
+				good(t, "ok of "+known+" and another, as a value", code(do(api.IOk, 3, b), other, minus))
+				wrongBoth(t, "ok of "+known+" and another, as an area", code(do(api.IOk, 3, b), other, one), api.ErrCode)
+			}
+			// 0 value, 1 choose 2 or 4: 2 another item, 3 jump to 7; 4 item, 5 ok to 7, 6 error; 7 what has come by all ways is taken.
+			after := func(other api.Ins) api.Code {
+				return of(wrongs(), laid("V", pick(8, 2, 4), other, jump(7), laid(known)[0], do(api.IOk, 7, b), first, sum(1))...)
+			}
+			good(t, "a value, and ok of "+known, after(val))
+			good(t, "an error, and ok of "+known, after(first))
+			wrongBoth(t, "an area, and ok of "+known, after(box), api.ErrCode)
+		}
 	}
 }
 
