@@ -7,178 +7,24 @@ import (
 	"testing"
 
 	"quadrille/api"
-	"quadrille/calc"
-	"quadrille/value"
+	"quadrille/mach"
 )
 
-// items is a stack.
-type items []api.Arg
-
-func (s *items) lay(v api.Value) { *s = append(*s, api.Arg{Value: v}) }
-
-func (s *items) layArea(a api.Area, bad api.Value) {
-	if isWrong(bad) {
-		s.lay(bad)
-		return
+// code has a machine run code to its end, and gives what comes of it.
+func (r *run) code(t *testing.T, p api.Code) api.Value {
+	t.Helper()
+	m, e := mach.New(p, r.at)
+	if e != api.OK {
+		t.Fatalf("P17.2: the machine refuses the code: %d", e)
 	}
-	*s = append(*s, api.Arg{IsArea: true, Area: a})
-}
-
-// take takes so many items, the last of which was on top.
-func (s *items) take(n int) []api.Arg {
-	low := len(*s) - n
-	taken := slices.Clone((*s)[low:])
-	*s = (*s)[:low]
-	return taken
-}
-
-// values takes so many values.
-func (s *items) values(n int) []api.Value {
-	var all []api.Value
-	for _, item := range s.take(n) {
-		if item.IsArea {
-			panic("an area, where a value is asked for")
+	for at, wants := m.Wants(); wants; at, wants = m.Wants() {
+		r.fetched = append(r.fetched, at)
+		if e := m.Give(r.cells(at)); e != api.OK {
+			t.Fatalf("the machine refuses the value of %v: %d", at, e)
 		}
-		all = append(all, item.Value)
 	}
-	return all
-}
-
-func (s *items) value() api.Value { return s.values(1)[0] }
-
-func (s *items) top() api.Arg { return (*s)[len(*s)-1] }
-
-func isWrongItem(item api.Arg) bool { return !item.IsArea && isWrong(item.Value) }
-
-// code runs code from its first instruction to its end, and gives the one item that is left.
-func (r *run) code(p api.Code) api.Value {
-	var s items
-	for at := 0; at < len(p.Ins); {
-		next := r.goTo(&s, p, at)
-		if next <= at {
-			panic("a way back")
-		}
-		at = next
-	}
-	if len(s) != 1 || s[0].IsArea {
-		panic(fmt.Sprint("what is left is not one value: ", s))
-	}
-	return s[0].Value
-}
-
-// goTo does an instruction, and tells which one comes next.
-func (r *run) goTo(s *items, p api.Code, at int) int {
-	in := p.Ins[at]
-	switch in.Op {
-	case api.IErr:
-		if isWrongItem(s.top()) {
-			bad := s.value()
-			s.take(in.B)
-			s.lay(bad)
-			return in.A
-		}
-	case api.IIf:
-		yes, bad := value.Truth(s.value())
-		if bad != 0 {
-			s.lay(wrong(int64(bad)))
-			return in.B
-		}
-		if !yes {
-			return in.A
-		}
-	case api.IOk:
-		if v := s.top().Value; !isWrong(v) || in.B == 6 && v.Int != api.ENA {
-			return in.A
-		}
-		s.value()
-	case api.IChoose:
-		n, bad := value.Number(s.value())
-		if bad == 0 && n >= 1 && n <= int64(len(in.T)) {
-			return in.T[n-1]
-		}
-		if bad == 0 {
-			bad = api.EValue
-		}
-		s.lay(wrong(int64(bad)))
-		return in.A
-	case api.IMatch:
-		both := s.values(2)
-		if value.Compare(both[0], both[1]) != 0 {
-			s.lay(both[0])
-			return in.A
-		}
-	case api.IDrop:
-		s.value()
-	case api.IJump:
-		return in.A
-	default:
-		r.do(s, p, in)
-	}
-	return at + 1
-}
-
-// do does an instruction that does not jump.
-func (r *run) do(s *items, p api.Code, in api.Ins) {
-	switch in.Op {
-	case api.IConst:
-		s.lay(p.Consts[in.A])
-	case api.IFetch:
-		s.lay(r.fetch(api.Spot{Row: in.A, Col: in.B}))
-	case api.IArea:
-		s.layArea(api.Area{Top: in.A, Left: in.B, Bottom: in.C, Right: in.D}, api.Value{})
-	case api.IUn:
-		s.lay(calc.Un(in.A, s.value()))
-	case api.IBin:
-		both := s.values(2)
-		s.lay(calc.Bin(in.A, both[0], both[1]))
-	case api.ICall:
-		v, e := calc.Call(in.A, s.values(in.B)...)
-		if e != api.OK {
-			panic(e)
-		}
-		s.lay(v)
-	case api.IHere:
-		s.lay(number(map[int]int{api.FRow: r.at.Row, api.FColumn: r.at.Col}[in.A] + 1))
-	case api.IPlace:
-		if item := s.take(1)[0]; isWrongItem(item) {
-			s.lay(item.Value)
-		} else {
-			s.lay(measured(in.A, item.Area))
-		}
-	case api.IOne:
-		s.lay(r.one(s.take(1)[0]))
-	case api.IIndirect:
-		s.layArea(spelt(s.value()))
-	case api.IOffset, api.IIndex:
-		s.layArea(found(map[int]int{api.IOffset: api.FOffset, api.IIndex: api.FIndex}[in.Op], s.take(in.A+1)))
-	case api.IWalk:
-		s.lay(r.walk(in.A, s.take(in.B)))
-	default:
-		panic(fmt.Sprint("no instruction: ", in.Op))
-	}
-}
-
-// one gives the value of an area's one place.
-func (r *run) one(item api.Arg) api.Value {
-	switch a := item.Area; {
-	case !item.IsArea:
-		return item.Value
-	case a.Top == a.Bottom && a.Left == a.Right:
-		return r.fetch(api.Spot{Row: a.Top, Col: a.Left})
-	}
-	return wrong(api.EValue)
-}
-
-// found gives what OFFSET or INDEX makes of items.
-func found(f int, all []api.Arg) (api.Area, api.Value) {
-	var values []api.Value
-	for _, item := range all {
-		if isWrongItem(item) {
-			return api.Area{}, item.Value
-		}
-		values = append(values, item.Value)
-	}
-	return derived(f, all[0].Area, values[1:])
+	v, _ := m.Value()
+	return v
 }
 
 // sheets gives sheets of few values, each in many places.
@@ -201,7 +47,7 @@ func checkRun(t *testing.T, x api.Expr, p api.Code, at api.Spot, cells sheet) ([
 	t.Helper()
 	meant, done := run{at: at, cells: cells}, run{at: at, cells: cells}
 	want := meant.ended(func() api.Value { return meant.tree(x) })
-	got := done.ended(func() api.Value { return done.code(p) })
+	got := done.code(t, p)
 	if got != want || !slices.Equal(done.fetched, meant.fetched) {
 		t.Fatalf("P17.3: %s at %v: ends with %v, not %v; wants %s, not %s", brief(spell(x)), at, got, want, brief(fmt.Sprint(done.fetched)), brief(fmt.Sprint(meant.fetched)))
 	}

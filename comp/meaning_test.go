@@ -15,7 +15,7 @@ type sheet func(at api.Spot) api.Value
 // tooMany ends an evaluation at the fetch that is not made.
 type tooMany struct{}
 
-// run is one evaluation at a place: of a tree in the document's words, or of code instruction by instruction.
+// run is one evaluation at a place: of a tree in the document's words, or of code by a machine.
 type run struct {
 	at      api.Spot
 	cells   sheet
